@@ -26,6 +26,7 @@ type layer struct {
 // The layers that are built, from the document's map and its section 'Ways'.
 var layers = []layer{
 	{"bitrow", "api", "range-function closure"},
+	{"block", "api bitrow", "variadic copy"},
 }
 
 const library = " bytes cmp container/heap errors iter maps math math/bits slices sort strconv strings sync sync/atomic unicode unicode/utf8 "
