@@ -27,6 +27,7 @@ type layer struct {
 var layers = []layer{
 	{"bitrow", "api", "range-function closure"},
 	{"block", "api bitrow", "variadic copy"},
+	{"matrix", "api bitrow block", "method-expression method-value"},
 }
 
 const library = " bytes cmp container/heap errors iter maps math math/bits slices sort strconv strings sync sync/atomic unicode unicode/utf8 "
