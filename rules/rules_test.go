@@ -28,6 +28,7 @@ var layers = []layer{
 	{"bitrow", "api", "range-function closure"},
 	{"block", "api bitrow", "variadic copy"},
 	{"matrix", "api bitrow block", "method-expression method-value"},
+	{"reduce", "api bitrow matrix", "range-function method-value"},
 }
 
 const library = " bytes cmp container/heap errors iter maps math math/bits slices sort strconv strings sync sync/atomic unicode unicode/utf8 "
