@@ -29,6 +29,7 @@ var layers = []layer{
 	{"block", "api bitrow", "variadic copy"},
 	{"matrix", "api bitrow block", "method-expression method-value"},
 	{"reduce", "api bitrow matrix", "range-function method-value"},
+	{"backsub", "api bitrow block matrix reduce", "embedding promoted"},
 }
 
 const library = " bytes cmp container/heap errors iter maps math math/bits slices sort strconv strings sync sync/atomic unicode unicode/utf8 "
