@@ -30,6 +30,7 @@ var layers = []layer{
 	{"matrix", "api bitrow block", "method-expression method-value"},
 	{"reduce", "api bitrow matrix", "range-function method-value"},
 	{"backsub", "api bitrow block matrix reduce", "embedding promoted"},
+	{"random", "api", "range-function range-integer"},
 }
 
 const library = " bytes cmp container/heap errors iter maps math math/bits slices sort strconv strings sync sync/atomic unicode unicode/utf8 "
