@@ -31,6 +31,7 @@ var layers = []layer{
 	{"reduce", "api bitrow matrix", "range-function method-value"},
 	{"backsub", "api bitrow block matrix reduce", "embedding promoted"},
 	{"random", "api", "range-function range-integer"},
+	{"degree", "api", "closure range-function"},
 }
 
 const library = " bytes cmp container/heap errors iter maps math math/bits slices sort strconv strings sync sync/atomic unicode unicode/utf8 "
