@@ -32,6 +32,7 @@ var layers = []layer{
 	{"backsub", "api bitrow block matrix reduce", "embedding promoted"},
 	{"random", "api", "range-function range-integer"},
 	{"degree", "api", "closure range-function"},
+	{"neighbours", "api bitrow degree random", "method-value"},
 }
 
 const library = " bytes cmp container/heap errors iter maps math math/bits slices sort strconv strings sync sync/atomic unicode unicode/utf8 "
