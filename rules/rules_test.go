@@ -33,6 +33,7 @@ var layers = []layer{
 	{"random", "api", "range-function range-integer"},
 	{"degree", "api", "closure range-function"},
 	{"neighbours", "api bitrow degree random", "method-value"},
+	{"encode", "api block neighbours", "range-function"},
 }
 
 const library = " bytes cmp container/heap errors iter maps math math/bits slices sort strconv strings sync sync/atomic unicode unicode/utf8 "
