@@ -34,6 +34,7 @@ var layers = []layer{
 	{"degree", "api", "closure range-function"},
 	{"neighbours", "api bitrow degree random", "method-value"},
 	{"encode", "api block neighbours", "range-function"},
+	{"crc", "api", "array"},
 }
 
 const library = " bytes cmp container/heap errors iter maps math math/bits slices sort strconv strings sync sync/atomic unicode unicode/utf8 "
