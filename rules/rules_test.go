@@ -35,6 +35,7 @@ var layers = []layer{
 	{"neighbours", "api bitrow degree random", "method-value"},
 	{"encode", "api block neighbours", "range-function"},
 	{"crc", "api", "array"},
+	{"datagram", "api crc", "method-value"},
 }
 
 const library = " bytes cmp container/heap errors iter maps math math/bits slices sort strconv strings sync sync/atomic unicode unicode/utf8 "
