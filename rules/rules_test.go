@@ -36,6 +36,7 @@ var layers = []layer{
 	{"encode", "api block neighbours", "range-function"},
 	{"crc", "api", "array"},
 	{"datagram", "api crc", "method-value"},
+	{"equations", "api neighbours reduce", "closure variadic three-index"},
 }
 
 const library = " bytes cmp container/heap errors iter maps math math/bits slices sort strconv strings sync sync/atomic unicode unicode/utf8 "
