@@ -37,6 +37,7 @@ var layers = []layer{
 	{"crc", "api", "array"},
 	{"datagram", "api crc", "method-value"},
 	{"equations", "api neighbours reduce", "closure variadic three-index"},
+	{"shard", "api", "method-expression map"},
 }
 
 const library = " bytes cmp container/heap errors iter maps math math/bits slices sort strconv strings sync sync/atomic unicode unicode/utf8 "
