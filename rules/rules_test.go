@@ -38,6 +38,7 @@ var layers = []layer{
 	{"datagram", "api crc", "method-value"},
 	{"equations", "api neighbours reduce", "closure variadic three-index"},
 	{"shard", "api", "method-expression map"},
+	{"ripple", "api", "interface interface-call assertion"},
 }
 
 const library = " bytes cmp container/heap errors iter maps math math/bits slices sort strconv strings sync sync/atomic unicode unicode/utf8 "
