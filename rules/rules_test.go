@@ -39,6 +39,7 @@ var layers = []layer{
 	{"equations", "api neighbours reduce", "closure variadic three-index"},
 	{"shard", "api", "method-expression map"},
 	{"ripple", "api", "interface interface-call assertion"},
+	{"peel", "api bitrow block equations", "range-function method-value"},
 }
 
 const library = " bytes cmp container/heap errors iter maps math math/bits slices sort strconv strings sync sync/atomic unicode unicode/utf8 "
