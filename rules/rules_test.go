@@ -40,6 +40,7 @@ var layers = []layer{
 	{"shard", "api", "method-expression map"},
 	{"ripple", "api", "interface interface-call assertion"},
 	{"peel", "api bitrow block equations", "range-function method-value"},
+	{"inactive", "api bitrow matrix", "method-expression iota label"},
 }
 
 const library = " bytes cmp container/heap errors iter maps math math/bits slices sort strconv strings sync sync/atomic unicode unicode/utf8 "
