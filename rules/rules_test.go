@@ -44,6 +44,7 @@ var layers = []layer{
 	{"solve", "api backsub bitrow block equations inactive matrix peel", "closure function-field"},
 	{"object", "api equations solve", "method-expression array"},
 	{"receiver", "api datagram equations object", "generic-function"},
+	{"sched", "api", "array function-field"},
 }
 
 const library = " bytes cmp container/heap errors iter maps math math/bits slices sort strconv strings sync sync/atomic unicode unicode/utf8 "
