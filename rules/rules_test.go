@@ -45,6 +45,7 @@ var layers = []layer{
 	{"object", "api equations solve", "method-expression array"},
 	{"receiver", "api datagram equations object", "generic-function"},
 	{"sched", "api", "array function-field"},
+	{"machine", "api receiver", "method-expression array embedding promoted"},
 }
 
 const library = " bytes cmp container/heap errors iter maps math math/bits slices sort strconv strings sync sync/atomic unicode unicode/utf8 "
