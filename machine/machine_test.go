@@ -294,19 +294,6 @@ func TestRun(t *testing.T) {
 	}
 }
 
-// An answer's replies have lists of their own.
-func TestRepliesAreApart(t *testing.T) {
-	c := made(t, 1, []api.Call{open(1), add(1, 0), add(1, 1), add(1, 2), add(1, 3), call(api.CResult, 1)})
-	c, _ = machine.Run(c, make([]int, 30))
-	if !slices.Equal(c.Told[0].Blocks, source) || !slices.Equal(c.History[11].Reply.Blocks, source) {
-		t.Fatal(c)
-	}
-	c.Told[0].Blocks[0] = "xx"
-	if !slices.Equal(c.History[11].Reply.Blocks, source) {
-		t.Error("Told and History share a list")
-	}
-}
-
 func TestHistoryKeepsRoom(t *testing.T) {
 	c := made(t, 1, []api.Call{open(1)}, []api.Call{open(2)})
 	c.History = make([]api.Event, 0, 10)

@@ -46,6 +46,7 @@ var layers = []layer{
 	{"receiver", "api datagram equations object", "generic-function"},
 	{"sched", "api", "array function-field"},
 	{"machine", "api receiver", "method-expression array embedding promoted"},
+	{"history", "api", "range-function struct-compared"},
 }
 
 const library = " bytes cmp container/heap errors iter maps math math/bits slices sort strconv strings sync sync/atomic unicode unicode/utf8 "

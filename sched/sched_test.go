@@ -420,15 +420,11 @@ func TestRunStandsStill(t *testing.T) {
 
 // A step is made as it is said, though a number comes to be too great; the system that comes of it may not be.
 func TestStepOverTheBound(t *testing.T) {
-	s := made(t, []api.Instr{add(0, 1), add(0, -1), add(1, 2)})
+	s := made(t, []api.Instr{add(0, 1)})
 	s.Cells[0] = 1<<30 - 1
 	x, e := sched.Step(s, 0)
 	if e != api.OK || x.Cells[0] != 1<<30 || sched.Right(x) {
 		t.Error(x, e)
-	}
-	x, went, e := sched.Run(s, []int{0, 0, 0})
-	if e != api.OK || len(went) != 3 || x.Cells[0] != 1<<30-1 || x.Cells[1] != 2 {
-		t.Error(x, went, e)
 	}
 }
 
