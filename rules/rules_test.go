@@ -47,6 +47,7 @@ var layers = []layer{
 	{"sched", "api", "array function-field"},
 	{"machine", "api receiver", "method-expression array embedding promoted"},
 	{"history", "api", "range-function struct-compared"},
+	{"linear", "api history receiver", "closure"},
 }
 
 const library = " bytes cmp container/heap errors iter maps math math/bits slices sort strconv strings sync sync/atomic unicode unicode/utf8 "
