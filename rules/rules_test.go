@@ -48,6 +48,7 @@ var layers = []layer{
 	{"machine", "api receiver", "method-expression array embedding promoted"},
 	{"history", "api", "range-function struct-compared"},
 	{"linear", "api history receiver", "closure"},
+	{"flow", "api datagram encode receiver", "method-value array"},
 }
 
 const library = " bytes cmp container/heap errors iter maps math math/bits slices sort strconv strings sync sync/atomic unicode unicode/utf8 "
