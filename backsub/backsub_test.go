@@ -11,67 +11,8 @@ import (
 	"downpour/bitrow"
 	"downpour/matrix"
 	"downpour/reduce"
+	"downpour/sample"
 )
-
-// seed makes the tests' inputs the same at every run.
-type seed uint64
-
-func (s *seed) below(n int) int {
-	*s = *s*6364136223846793005 + 1442695040888963407
-	return int(uint64(*s) >> 33 % uint64(n))
-}
-
-// matrix has about one bit 1 of so many.
-func (s *seed) matrix(rows, n, of int) api.Matrix {
-	m := api.Matrix{N: n}
-	for range rows {
-		var places []int
-		for i := range n {
-			if s.below(of) == 0 {
-				places = append(places, i)
-			}
-		}
-		r, _ := bitrow.Of(n, places)
-		m.Rows = append(m.Rows, r)
-	}
-	return m
-}
-
-func (s *seed) blocks(many, n int) []string {
-	var l []string
-	for range many {
-		b := make([]byte, n)
-		for i := range b {
-			b[i] = byte(s.below(256))
-		}
-		l = append(l, string(b))
-	}
-	return l
-}
-
-// of is the matrix whose rows' bits are written out.
-func of(n int, rows ...string) api.Matrix {
-	m := api.Matrix{N: n}
-	for _, s := range rows {
-		var places []int
-		for i := range len(s) {
-			if s[i] == '1' {
-				places = append(places, i)
-			}
-		}
-		r, _ := bitrow.Of(len(s), places)
-		m.Rows = append(m.Rows, r)
-	}
-	return m
-}
-
-func copyOf(m api.Matrix) api.Matrix {
-	m.Rows = slices.Clone(m.Rows)
-	for i := range m.Rows {
-		m.Rows[i].Words = slices.Clone(m.Rows[i].Words)
-	}
-	return m
-}
 
 func alone(n, place int) api.Row {
 	r, _ := bitrow.Of(n, []int{place})
@@ -109,7 +50,7 @@ func canBe(m api.Matrix, n int, l []string) bool {
 
 func check(t *testing.T, m api.Matrix, n int, l []string) {
 	t.Helper()
-	kept, blocks := copyOf(m), slices.Clone(l)
+	kept, blocks := sample.Copy(m), slices.Clone(l)
 	told, can := want(m, n, l)
 	fits, e := backsub.Fits(m, n, l)
 	if e != api.OK || fits != can {
@@ -144,59 +85,59 @@ func check(t *testing.T, m api.Matrix, n int, l []string) {
 }
 
 func TestExamples(t *testing.T) {
-	if l, e := backsub.Solve(of(2, "11", "01"), 1, []string{"a", "b"}); e != api.OK || !slices.Equal(l, []string{"\x03", "b"}) {
+	if l, e := backsub.Solve(sample.Matrix(2, "11", "01"), 1, []string{"a", "b"}); e != api.OK || !slices.Equal(l, []string{"\x03", "b"}) {
 		t.Errorf("%q %d", l, e)
 	}
-	columns, blocks, e := backsub.Known(of(4, "1100", "0001", "1110"), 1, []string{"a", "b", "c"})
+	columns, blocks, e := backsub.Known(sample.Matrix(4, "1100", "0001", "1110"), 1, []string{"a", "b", "c"})
 	if e != api.OK || !slices.Equal(columns, []int{2, 3}) || !slices.Equal(blocks, []string{"\x02", "b"}) {
 		t.Errorf("%v %q %d", columns, blocks, e)
 	}
-	if _, e := backsub.Solve(of(3, "110", "011", "101"), 1, []string{"a", "b", "\x03"}); e != api.ErrNotReady {
+	if _, e := backsub.Solve(sample.Matrix(3, "110", "011", "101"), 1, []string{"a", "b", "\x03"}); e != api.ErrNotReady {
 		t.Error(e)
 	}
-	if _, e := backsub.Solve(of(3, "110", "011", "101"), 1, []string{"a", "b", "c"}); e != api.ErrInconsistent {
+	if _, e := backsub.Solve(sample.Matrix(3, "110", "011", "101"), 1, []string{"a", "b", "c"}); e != api.ErrInconsistent {
 		t.Error("what can't be so comes ahead of what is not ready", e)
 	}
-	if l, e := backsub.Solve(of(0), 5, nil); e != api.OK || len(l) != 0 {
+	if l, e := backsub.Solve(sample.Matrix(0), 5, nil); e != api.OK || len(l) != 0 {
 		t.Error("of no columns all blocks are told", l, e)
 	}
-	if _, e := backsub.Solve(of(0, ""), 1, []string{"a"}); e != api.ErrInconsistent {
+	if _, e := backsub.Solve(sample.Matrix(0, ""), 1, []string{"a"}); e != api.ErrInconsistent {
 		t.Error(e)
 	}
-	if l, e := backsub.Solve(of(2, "11", "01"), 0, []string{"", ""}); e != api.OK || !slices.Equal(l, []string{"", ""}) {
+	if l, e := backsub.Solve(sample.Matrix(2, "11", "01"), 0, []string{"", ""}); e != api.OK || !slices.Equal(l, []string{"", ""}) {
 		t.Error("blocks of no bytes are told by the rows", l, e)
 	}
-	if _, e := backsub.Solve(of(2, "11"), 0, []string{""}); e != api.ErrNotReady {
+	if _, e := backsub.Solve(sample.Matrix(2, "11"), 0, []string{""}); e != api.ErrNotReady {
 		t.Error("blocks of no bytes are told by the rows", e)
 	}
 }
 
 func TestByTheWords(t *testing.T) {
-	s := seed(1)
+	s := sample.Seed(1)
 	for range 300 {
-		n, rows, columns := s.below(3), s.below(9), s.below(7)
-		check(t, s.matrix(rows, columns, 1+s.below(3)), n, s.blocks(rows, n))
+		n, rows, columns := s.Below(3), s.Below(9), s.Below(7)
+		check(t, s.Matrix(rows, columns, 1+s.Below(3)), n, s.Blocks(rows, n))
 	}
 	for range 300 {
-		n, rows, columns := s.below(3), s.below(12), s.below(7)
-		m := s.matrix(rows, columns, 1+s.below(3))
-		l, _ := matrix.Apply(m, n, s.blocks(columns, n))
+		n, rows, columns := s.Below(3), s.Below(12), s.Below(7)
+		m := s.Matrix(rows, columns, 1+s.Below(3))
+		l, _ := matrix.Apply(m, n, s.Blocks(columns, n))
 		check(t, m, n, l)
 	}
 	for _, p := range [][3]int{{64, 64, 64}, {64, 60, 64}, {60, 64, 3}, {64, 1, 64}, {1, 64, 0}} {
-		m := s.matrix(p[0], p[1], 2)
-		l, _ := matrix.Apply(m, p[2], s.blocks(p[1], p[2]))
+		m := s.Matrix(p[0], p[1], 2)
+		l, _ := matrix.Apply(m, p[2], s.Blocks(p[1], p[2]))
 		check(t, m, p[2], l)
-		check(t, m, p[2], s.blocks(p[0], p[2]))
+		check(t, m, p[2], s.Blocks(p[0], p[2]))
 	}
 }
 
 func TestBlocksAreTold(t *testing.T) {
-	s := seed(2)
+	s := sample.Seed(2)
 	for range 60 {
-		n, columns := s.below(65), 1+s.below(40)
-		all := s.matrix(64, columns, 1+s.below(6))
-		source := s.blocks(columns, n)
+		n, columns := s.Below(65), 1+s.Below(40)
+		all := s.Matrix(64, columns, 1+s.Below(6))
+		source := s.Blocks(columns, n)
 		sums, _ := matrix.Apply(all, n, source)
 		for rows := 0; rows <= 64; rows += 8 {
 			m := api.Matrix{N: columns, Rows: all.Rows[:rows]}
@@ -226,8 +167,8 @@ func TestWrong(t *testing.T) {
 		{N: -1},
 		{N: 65},
 		{N: math.MaxInt},
-		of(2, "11", "1"),
-		{N: 1, Rows: slices.Repeat(of(1, "1").Rows, 65)},
+		sample.Matrix(2, "11", "1"),
+		{N: 1, Rows: slices.Repeat(sample.Matrix(1, "1").Rows, 65)},
 		{N: 2, Rows: []api.Row{{N: 2}, {N: 2}}},
 		{N: 2, Rows: []api.Row{{N: 2, Words: []uint64{4}}}},
 	}
@@ -236,7 +177,7 @@ func TestWrong(t *testing.T) {
 		refused(t, api.ErrArg, m, -1, nil)
 		refused(t, api.ErrArg, m, 1, []string{"ab"})
 	}
-	good := of(2, "11", "01")
+	good := sample.Matrix(2, "11", "01")
 	for _, w := range []struct {
 		n int
 		l []string
@@ -253,7 +194,7 @@ func TestWrong(t *testing.T) {
 	} {
 		refused(t, api.ErrSize, good, w.n, w.l)
 	}
-	refused(t, api.ErrSize, of(2), 1, []string{"a", "b"})
+	refused(t, api.ErrSize, sample.Matrix(2), 1, []string{"a", "b"})
 }
 
 func refused(t *testing.T, why api.Errno, m api.Matrix, n int, l []string) {

@@ -7,25 +7,8 @@ import (
 
 	"downpour/api"
 	"downpour/bitrow"
+	"downpour/sample"
 )
-
-// seed makes the tests' inputs the same at every run.
-type seed uint64
-
-func (s *seed) below(n int) int {
-	*s = *s*6364136223846793005 + 1442695040888963407
-	return int(uint64(*s) >> 33 % uint64(n))
-}
-
-func (s *seed) places(n int) []int {
-	var l []int
-	for i := range n {
-		if s.below(2) == 1 {
-			l = append(l, i)
-		}
-	}
-	return l
-}
 
 func of(t *testing.T, n int, places ...int) api.Row {
 	t.Helper()
@@ -194,10 +177,10 @@ func TestGetRange(t *testing.T) {
 }
 
 func TestPlaces(t *testing.T) {
-	s := seed(1)
+	s := sample.Seed(1)
 	for range 20 {
 		for _, n := range lengths {
-			want := s.places(n)
+			want := s.Places(n, 2)
 			r := of(t, n, want...)
 			if got, e := bitrow.Places(r); e != api.OK || !slices.Equal(got, want) {
 				t.Fatal(n, got, want, e)
@@ -240,10 +223,10 @@ func TestFirst(t *testing.T) {
 }
 
 func TestJoins(t *testing.T) {
-	s := seed(2)
+	s := sample.Seed(2)
 	for range 20 {
 		for _, n := range lengths {
-			p, q := s.places(n), s.places(n)
+			p, q := s.Places(n, 2), s.Places(n, 2)
 			a, b := of(t, n, p...), of(t, n, q...)
 			var one, both []int
 			for i := range n {
@@ -269,10 +252,10 @@ func TestJoins(t *testing.T) {
 }
 
 func TestLaws(t *testing.T) {
-	s := seed(3)
+	s := sample.Seed(3)
 	for range 50 {
-		n := s.below(513)
-		a, b := of(t, n, s.places(n)...), of(t, n, s.places(n)...)
+		n := s.Below(513)
+		a, b := of(t, n, s.Places(n, 2)...), of(t, n, s.Places(n, 2)...)
 		x, _ := bitrow.Xor(a, b)
 		y, _ := bitrow.And(a, b)
 		if back, e := bitrow.Xor(x, b); e != api.OK || !bitrow.Like(back, a) {

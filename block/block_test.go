@@ -9,42 +9,8 @@ import (
 	"downpour/api"
 	"downpour/bitrow"
 	"downpour/block"
+	"downpour/sample"
 )
-
-// seed makes the tests' inputs the same at every run.
-type seed uint64
-
-func (s *seed) below(n int) int {
-	*s = *s*6364136223846793005 + 1442695040888963407
-	return int(uint64(*s) >> 33 % uint64(n))
-}
-
-func (s *seed) block(n int) string {
-	b := make([]byte, n)
-	for i := range b {
-		b[i] = byte(s.below(256))
-	}
-	return string(b)
-}
-
-func (s *seed) blocks(many, n int) []string {
-	var l []string
-	for range many {
-		l = append(l, s.block(n))
-	}
-	return l
-}
-
-func (s *seed) row(n int) api.Row {
-	var places []int
-	for i := range n {
-		if s.below(2) == 1 {
-			places = append(places, i)
-		}
-	}
-	r, _ := bitrow.Of(n, places)
-	return r
-}
 
 // sum is the tests' own, byte by byte.
 func sum(n int, l []string) string {
@@ -78,10 +44,10 @@ func TestXor(t *testing.T) {
 	if s, e := block.Xor("a", "b"); e != api.OK || s != "\x03" {
 		t.Errorf("%q %d", s, e)
 	}
-	s := seed(1)
+	s := sample.Seed(1)
 	for _, n := range sizes {
 		for range 10 {
-			a, b := s.block(n), s.block(n)
+			a, b := s.Text(n), s.Text(n)
 			if x, e := block.Xor(a, b); e != api.OK || x != sum(n, []string{a, b}) {
 				t.Errorf("%q %q %q %d", a, b, x, e)
 			}
@@ -109,10 +75,10 @@ func TestNought(t *testing.T) {
 }
 
 func TestSum(t *testing.T) {
-	s := seed(2)
+	s := sample.Seed(2)
 	for _, n := range sizes {
 		for _, many := range []int{0, 1, 2, 3, 10, 63, 64} {
-			l := s.blocks(many, n)
+			l := s.Blocks(many, n)
 			kept := slices.Clone(l)
 			if x, e := block.Sum(n, l...); e != api.OK || x != sum(n, l) {
 				t.Errorf("%d %d %q %d", n, many, x, e)
@@ -156,11 +122,11 @@ func TestSumWrong(t *testing.T) {
 }
 
 func TestPick(t *testing.T) {
-	s := seed(3)
+	s := sample.Seed(3)
 	for _, n := range sizes {
 		for _, many := range []int{0, 1, 2, 5, 64} {
 			for range 5 {
-				l, r := s.blocks(many, n), s.row(many)
+				l, r := s.Blocks(many, n), s.Row(many, 2)
 				kept, row := slices.Clone(l), slices.Clone(r.Words)
 				var named []string
 				for i := range many {
@@ -212,10 +178,10 @@ func TestPickWrong(t *testing.T) {
 }
 
 func TestLaws(t *testing.T) {
-	s := seed(4)
+	s := sample.Seed(4)
 	for range 50 {
-		n, many := s.below(65), 2+s.below(62)
-		l := s.blocks(many, n)
+		n, many := s.Below(65), 2+s.Below(62)
+		l := s.Blocks(many, n)
 		all, _ := block.Sum(n, l...)
 		turned := slices.Clone(l)
 		slices.Reverse(turned)
@@ -225,7 +191,7 @@ func TestLaws(t *testing.T) {
 		if x, _ := block.Sum(n, append(slices.Clone(l[:many-1]), l[0])...); x != sum(n, l[1:many-1]) {
 			t.Fatal("twice is not out", n, many)
 		}
-		a, b := s.row(many), s.row(many)
+		a, b := s.Row(many, 2), s.Row(many, 2)
 		c, _ := bitrow.Xor(a, b)
 		x, _ := block.Pick(n, l, a)
 		y, _ := block.Pick(n, l, b)

@@ -7,23 +7,8 @@ import (
 
 	"downpour/api"
 	"downpour/crc"
+	"downpour/sample"
 )
-
-// seed makes the tests' inputs the same at every run.
-type seed uint64
-
-func (s *seed) below(n int) int {
-	*s = *s*6364136223846793005 + 1442695040888963407
-	return int(uint64(*s) >> 33 % uint64(n))
-}
-
-func (s *seed) text(n int) string {
-	b := make([]byte, n)
-	for i := range b {
-		b[i] = byte(s.below(256))
-	}
-	return string(b)
-}
 
 // more is the tests' own, bit by bit.
 func more(c uint32, s string) uint32 {
@@ -55,9 +40,9 @@ func TestSum(t *testing.T) {
 		}
 	}
 	castagnoli := crc32.MakeTable(crc32.Castagnoli)
-	s := seed(1)
+	s := sample.Seed(1)
 	for n := range 300 {
-		text := s.text(n)
+		text := s.Text(n)
 		if got := crc.Sum(text); got != more(0, text) || got != crc32.Checksum([]byte(text), castagnoli) {
 			t.Fatal(n, got)
 		}
@@ -70,9 +55,9 @@ func TestSum(t *testing.T) {
 }
 
 func TestMore(t *testing.T) {
-	s := seed(2)
+	s := sample.Seed(2)
 	for n := range 100 {
-		c, a, b := uint32(s.below(1<<31))*2+uint32(n%2), s.text(n), s.text(s.below(50))
+		c, a, b := uint32(s.Below(1<<31))*2+uint32(n%2), s.Text(n), s.Text(s.Below(50))
 		if got := crc.More(c, a); got != more(c, a) {
 			t.Fatal(c, n, got)
 		}
@@ -97,9 +82,9 @@ func TestSeal(t *testing.T) {
 	if got := crc.Seal(""); got != "\x00\x00\x00\x00" {
 		t.Errorf("%q", got)
 	}
-	s := seed(3)
+	s := sample.Seed(3)
 	for n := range 100 {
-		text := s.text(n)
+		text := s.Text(n)
 		sealed := crc.Seal(text)
 		c := more(0, text)
 		if sealed != text+string([]byte{byte(c), byte(c >> 8), byte(c >> 16), byte(c >> 24)}) {
@@ -128,9 +113,9 @@ func flipped(s string, bits ...int) string {
 }
 
 func TestOpenChanged(t *testing.T) {
-	s := seed(4)
+	s := sample.Seed(4)
 	for _, n := range []int{0, 1, 5, 40} {
-		sealed := crc.Seal(s.text(n))
+		sealed := crc.Seal(s.Text(n))
 		all := 8 * len(sealed)
 		for i := range all {
 			if got, e := crc.Open(flipped(sealed, i)); e != api.ErrMalformed || got != "" {
@@ -138,7 +123,7 @@ func TestOpenChanged(t *testing.T) {
 			}
 			bits := []int{i}
 			for j := i + 1; j < min(i+32, all); j++ {
-				if s.below(2) == 1 {
+				if s.Below(2) == 1 {
 					bits = append(bits, j)
 				}
 			}

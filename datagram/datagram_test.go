@@ -8,30 +8,15 @@ import (
 	"downpour/api"
 	"downpour/crc"
 	"downpour/datagram"
+	"downpour/sample"
 )
-
-// seed makes the tests' inputs the same at every run.
-type seed uint64
-
-func (s *seed) below(n int) int {
-	*s = *s*6364136223846793005 + 1442695040888963407
-	return int(uint64(*s) >> 33 % uint64(n))
-}
-
-func (s *seed) text(n int) string {
-	b := make([]byte, n)
-	for i := range b {
-		b[i] = byte(s.below(256))
-	}
-	return string(b)
-}
 
 func of(object, id uint64, k, size int, data string) api.Datagram {
 	return api.Datagram{Object: object, K: k, Size: size, Symbol: api.Symbol{Id: id, Data: data}}
 }
 
 func good() []api.Datagram {
-	s := seed(1)
+	s := sample.Seed(1)
 	l := []api.Datagram{
 		of(0, 0, 1, 0, ""),
 		of(0x0102030405060708, 0x1112131415161718, 10, 3, "abc"),
@@ -41,8 +26,8 @@ func good() []api.Datagram {
 		of(5, 6, 2, 4, "ä\x00\n"),
 	}
 	for range 50 {
-		n := s.below(65)
-		l = append(l, of(uint64(s.below(1<<30)), uint64(s.below(1<<30))<<33, 1+s.below(64), n, s.text(n)))
+		n := s.Below(65)
+		l = append(l, of(uint64(s.Below(1<<30)), uint64(s.Below(1<<30))<<33, 1+s.Below(64), n, s.Text(n)))
 	}
 	return l
 }

@@ -10,31 +10,8 @@ import (
 	"downpour/block"
 	"downpour/encode"
 	"downpour/neighbours"
+	"downpour/sample"
 )
-
-// seed makes the tests' inputs the same at every run.
-type seed uint64
-
-func (s *seed) below(n int) int {
-	*s = *s*6364136223846793005 + 1442695040888963407
-	return int(uint64(*s) >> 33 % uint64(n))
-}
-
-func (s *seed) text(n int) string {
-	b := make([]byte, n)
-	for i := range b {
-		b[i] = byte(s.below(256))
-	}
-	return string(b)
-}
-
-func (s *seed) blocks(many, n int) []string {
-	var l []string
-	for range many {
-		l = append(l, s.text(n))
-	}
-	return l
-}
 
 // wrongBlocks may not be, each for one fault alone.
 func wrongBlocks() [][]string {
@@ -68,10 +45,10 @@ func TestCut(t *testing.T) {
 			t.Errorf("%q %d %q %d", c.s, c.n, l, e)
 		}
 	}
-	s := seed(1)
+	s := sample.Seed(1)
 	for n := 1; n <= 64; n++ {
 		for _, size := range []int{1, n, n + 1, 64*n - n, 64*n - n + 1, 64*n - 1, 64 * n} {
-			text := s.text(size)
+			text := s.Text(size)
 			l, e := encode.Cut(text, n)
 			if e != api.OK || len(l) != (size+n-1)/n {
 				t.Fatal(n, size, len(l), e)
@@ -132,10 +109,10 @@ func TestJoin(t *testing.T) {
 }
 
 func TestMake(t *testing.T) {
-	s := seed(2)
+	s := sample.Seed(2)
 	for _, k := range []int{1, 2, 3, 10, 63, 64} {
 		for _, n := range []int{0, 1, 5, 64} {
-			l := s.blocks(k, n)
+			l := s.Blocks(k, n)
 			kept := slices.Clone(l)
 			ids := []uint64{0, 7, 7, math.MaxUint64, 1 << 40}
 			for len(ids) < 64 {
@@ -185,10 +162,10 @@ func TestMakeWrong(t *testing.T) {
 }
 
 func TestLaws(t *testing.T) {
-	s := seed(3)
+	s := sample.Seed(3)
 	for range 50 {
-		k, n, id := 1+s.below(64), s.below(65), uint64(s.below(1000))
-		a, b := s.blocks(k, n), s.blocks(k, n)
+		k, n, id := 1+s.Below(64), s.Below(65), uint64(s.Below(1000))
+		a, b := s.Blocks(k, n), s.Blocks(k, n)
 		var c, zero []string
 		for i := range k {
 			x, _ := block.Xor(a[i], b[i])

@@ -13,32 +13,16 @@ import (
 	"downpour/neighbours"
 	"downpour/receiver"
 	"downpour/reduce"
+	"downpour/sample"
 )
 
-// seed makes the tests' inputs the same at every run.
-type seed uint64
-
-func (s *seed) below(n int) int {
-	*s = *s*6364136223846793005 + 1442695040888963407
-	return int(uint64(*s) >> 33 % uint64(n))
-}
-
-func (s *seed) blocks(many, n int) []string {
-	var l []string
-	for range many {
-		b := make([]byte, n)
-		for i := range b {
-			b[i] = byte(s.below(256))
-		}
-		l = append(l, string(b))
-	}
-	return l
-}
+// seed makes the inputs of these tests.
+type seed struct{ sample.Seed }
 
 func (s *seed) acts(many int) []api.Act {
 	var l []api.Act
 	for range many {
-		l = append(l, api.Act{What: s.below(4), At: s.below(201) - 100, Bit: s.below(2001) - 1000})
+		l = append(l, api.Act{What: s.Below(4), At: s.Below(201) - 100, Bit: s.Below(2001) - 1000})
 	}
 	return l
 }
@@ -61,11 +45,11 @@ func wrongBlocks() [][]string {
 }
 
 func TestSend(t *testing.T) {
-	s := seed(1)
+	s := seed{1}
 	for _, k := range []int{1, 3, 64} {
 		for _, n := range []int{0, 1, 64} {
 			for _, many := range []uint64{0, 1, 64} {
-				blocks, numbers := s.blocks(k, n), ids(math.MaxUint64-5, many)
+				blocks, numbers := s.Blocks(k, n), ids(math.MaxUint64-5, many)
 				kept, keptIds := slices.Clone(blocks), slices.Clone(numbers)
 				sent, e := flow.Send(1<<40+7, blocks, numbers)
 				if e != api.OK || len(sent) != int(many) {
@@ -166,12 +150,12 @@ func TestRunExamples(t *testing.T) {
 }
 
 func TestRun(t *testing.T) {
-	s := seed(2)
+	s := seed{2}
 	for i := range 300 {
-		sent, acts := s.blocks(s.below(65), s.below(5)), s.acts(s.below(257))
+		sent, acts := s.Blocks(s.Below(65), s.Below(5)), s.acts(s.Below(257))
 		if i%2 == 0 {
 			for j := range acts {
-				if acts[j].What != api.FSpoil && s.below(3) > 0 {
+				if acts[j].What != api.FSpoil && s.Below(3) > 0 {
 					acts[j].What = api.FTwice
 				}
 			}
@@ -256,10 +240,10 @@ func TestFeed(t *testing.T) {
 }
 
 func TestWhole(t *testing.T) {
-	s := seed(3)
+	s := seed{3}
 	for range 100 {
-		k, n, most := 1+s.below(12), s.below(10), 1+s.below(64)
-		blocks, numbers, acts := s.blocks(k, n), ids(uint64(s.below(1000)), uint64(s.below(65))), s.acts(s.below(257))
+		k, n, most := 1+s.Below(12), s.Below(10), 1+s.Below(64)
+		blocks, numbers, acts := s.Blocks(k, n), ids(uint64(s.Below(1000)), uint64(s.Below(65))), s.acts(s.Below(257))
 		sent, _ := flow.Send(1, blocks, numbers)
 		delivered, _, _ := flow.Run(sent, acts)
 		want, wantTally, _ := flow.Feed(opened(k, n, most), delivered)
@@ -302,18 +286,18 @@ func TestWholeWrong(t *testing.T) {
 }
 
 func TestOverABadNet(t *testing.T) {
-	s := seed(4)
+	s := seed{4}
 	told := 0
 	for range 300 {
-		k, n, most := 1+s.below(8), s.below(5), 1+s.below(64)
-		blocks := s.blocks(k, n)
-		acts := s.acts(s.below(257))
+		k, n, most := 1+s.Below(8), s.Below(5), 1+s.Below(64)
+		blocks := s.Blocks(k, n)
+		acts := s.acts(s.Below(257))
 		for i := range acts {
-			if s.below(2) == 0 {
-				acts[i].What = s.below(2)
+			if s.Below(2) == 0 {
+				acts[i].What = s.Below(2)
 			}
 		}
-		r, tally, e := flow.Whole(blocks, ids(uint64(s.below(50)), uint64(s.below(65))), acts, most)
+		r, tally, e := flow.Whole(blocks, ids(uint64(s.Below(50)), uint64(s.Below(65))), acts, most)
 		if e != api.OK || tally.Other != 0 {
 			t.Fatal(tally, e)
 		}

@@ -7,15 +7,11 @@ import (
 
 	"downpour/api"
 	"downpour/history"
+	"downpour/sample"
 )
 
-// seed makes the tests' inputs the same at every run.
-type seed uint64
-
-func (s *seed) below(n int) int {
-	*s = *s*6364136223846793005 + 1442695040888963407
-	return int(uint64(*s) >> 33 % uint64(n))
-}
+// seed makes the inputs of these tests.
+type seed struct{ sample.Seed }
 
 func call(i int) api.Call {
 	return api.Call{What: i % 5, Object: uint64(i), K: 3, Size: 1, Cap: 4, Symbol: api.Symbol{Id: 7, Data: "x"}}
@@ -53,7 +49,7 @@ func (s *seed) some(many int) []api.Event {
 	var h []api.Event
 	var at [4]int
 	for range many {
-		c := s.below(4)
+		c := s.Below(4)
 		if at[c]%2 == 0 {
 			h = append(h, begin(c, at[c]/2))
 		} else {
@@ -69,7 +65,7 @@ func (s *seed) alone(many int) []api.Event {
 	var h []api.Event
 	var at [4]int
 	for range many {
-		c := s.below(4)
+		c := s.Below(4)
 		h = append(h, begin(c, at[c]), end(c, at[c]))
 		at[c]++
 	}
@@ -117,12 +113,12 @@ func bad() [][]api.Event {
 	} {
 		l = append(l, changed(good, 2, change), changed(good, 3, change), changed(good, 5, change))
 	}
-	s := seed(9)
+	s := seed{9}
 	return append(l, s.some(49), s.some(50), s.alone(25))
 }
 
 func TestRight(t *testing.T) {
-	s := seed(1)
+	s := seed{1}
 	for n := range 49 {
 		for range 5 {
 			if h := s.some(n); !history.Right(h) {
@@ -185,9 +181,9 @@ func TestSpansExamples(t *testing.T) {
 }
 
 func TestSpans(t *testing.T) {
-	s := seed(2)
+	s := seed{2}
 	for range 200 {
-		h := s.some(s.below(49))
+		h := s.some(s.Below(49))
 		var want []api.Span
 		var open []int
 		for i, e := range h {
@@ -272,7 +268,7 @@ func TestAlone(t *testing.T) {
 			t.Error(i, ok, e)
 		}
 	}
-	s := seed(3)
+	s := seed{3}
 	for n := range 25 {
 		h := s.alone(n)
 		if ok, e := history.Alone(h); e != api.OK || !ok {
@@ -287,7 +283,7 @@ func TestAlone(t *testing.T) {
 }
 
 func TestHistoriesAreNotChanged(t *testing.T) {
-	s := seed(4)
+	s := seed{4}
 	h := s.some(48)
 	kept := slices.Clone(h)
 	history.Right(h)

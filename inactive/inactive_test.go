@@ -10,70 +10,8 @@ import (
 	"downpour/inactive"
 	"downpour/matrix"
 	"downpour/reduce"
+	"downpour/sample"
 )
-
-// seed makes the tests' inputs the same at every run.
-type seed uint64
-
-func (s *seed) below(n int) int {
-	*s = *s*6364136223846793005 + 1442695040888963407
-	return int(uint64(*s) >> 33 % uint64(n))
-}
-
-// matrix has about one bit 1 of so many.
-func (s *seed) matrix(rows, n, of int) api.Matrix {
-	m := api.Matrix{N: n}
-	for range rows {
-		var places []int
-		for i := range n {
-			if s.below(of) == 0 {
-				places = append(places, i)
-			}
-		}
-		r, _ := bitrow.Of(n, places)
-		m.Rows = append(m.Rows, r)
-	}
-	return m
-}
-
-// of is the matrix whose rows' bits are written out.
-func of(n int, rows ...string) api.Matrix {
-	m := api.Matrix{N: n}
-	for _, s := range rows {
-		var places []int
-		for i := range len(s) {
-			if s[i] == '1' {
-				places = append(places, i)
-			}
-		}
-		r, _ := bitrow.Of(len(s), places)
-		m.Rows = append(m.Rows, r)
-	}
-	return m
-}
-
-func copyOf(m api.Matrix) api.Matrix {
-	m.Rows = slices.Clone(m.Rows)
-	for i := range m.Rows {
-		m.Rows[i].Words = slices.Clone(m.Rows[i].Words)
-	}
-	return m
-}
-
-// bad may not be, each for one fault alone.
-func bad() []api.Matrix {
-	return []api.Matrix{
-		{N: -1},
-		{N: 65},
-		{N: math.MinInt},
-		{N: math.MaxInt},
-		of(2, "11", "1"),
-		of(2, "110"),
-		{N: 2, Rows: slices.Repeat(of(2, "10").Rows, 65)},
-		{N: 2, Rows: []api.Row{{N: 2}}},
-		{N: 2, Rows: []api.Row{{N: 2, Words: []uint64{4}}}},
-	}
-}
 
 func same(a, b api.Plan) bool {
 	return slices.Equal(a.Inactive, b.Inactive) && slices.Equal(a.Rows, b.Rows) && slices.Equal(a.Columns, b.Columns) && slices.Equal(a.Core, b.Core)
@@ -133,15 +71,15 @@ func TestMakeExamples(t *testing.T) {
 		m    api.Matrix
 		want api.Plan
 	}{
-		{of(3, "110", "011", "101"), api.Plan{Inactive: []int{0}, Rows: []int{0, 1}, Columns: []int{1, 2}, Core: []int{2}}},
-		{of(3), api.Plan{}},
-		{of(0, "", ""), api.Plan{Core: []int{0, 1}}},
-		{of(2, "00", "00"), api.Plan{Core: []int{0, 1}}},
-		{of(2, "11", "01", "01"), api.Plan{Rows: []int{1, 0}, Columns: []int{1, 0}, Core: []int{2}}},
-		{of(2, "10", "01"), api.Plan{Rows: []int{0, 1}, Columns: []int{0, 1}}},
-		{of(3, "111", "011"), api.Plan{Inactive: []int{1}, Rows: []int{1, 0}, Columns: []int{2, 0}}},
-		{of(4, "1111"), api.Plan{Inactive: []int{0, 1, 2}, Rows: []int{0}, Columns: []int{3}}},
-		{of(4, "0011", "0011", "1100"), api.Plan{Inactive: []int{2, 0}, Rows: []int{0, 2}, Columns: []int{3, 1}, Core: []int{1}}},
+		{sample.Matrix(3, "110", "011", "101"), api.Plan{Inactive: []int{0}, Rows: []int{0, 1}, Columns: []int{1, 2}, Core: []int{2}}},
+		{sample.Matrix(3), api.Plan{}},
+		{sample.Matrix(0, "", ""), api.Plan{Core: []int{0, 1}}},
+		{sample.Matrix(2, "00", "00"), api.Plan{Core: []int{0, 1}}},
+		{sample.Matrix(2, "11", "01", "01"), api.Plan{Rows: []int{1, 0}, Columns: []int{1, 0}, Core: []int{2}}},
+		{sample.Matrix(2, "10", "01"), api.Plan{Rows: []int{0, 1}, Columns: []int{0, 1}}},
+		{sample.Matrix(3, "111", "011"), api.Plan{Inactive: []int{1}, Rows: []int{1, 0}, Columns: []int{2, 0}}},
+		{sample.Matrix(4, "1111"), api.Plan{Inactive: []int{0, 1, 2}, Rows: []int{0}, Columns: []int{3}}},
+		{sample.Matrix(4, "0011", "0011", "1100"), api.Plan{Inactive: []int{2, 0}, Rows: []int{0, 2}, Columns: []int{3, 1}, Core: []int{1}}},
 	} {
 		if p, e := inactive.Make(c.m); e != api.OK || !same(p, c.want) {
 			t.Error(i, p, e)
@@ -150,11 +88,11 @@ func TestMakeExamples(t *testing.T) {
 }
 
 func TestMake(t *testing.T) {
-	s := seed(1)
+	s := sample.Seed(1)
 	for range 400 {
-		rows, n := s.below(65), s.below(65)
-		m := s.matrix(rows, n, 1+s.below(2*n+2))
-		kept := copyOf(m)
+		rows, n := s.Below(65), s.Below(65)
+		m := s.Matrix(rows, n, 1+s.Below(2*n+2))
+		kept := sample.Copy(m)
 		p, e := inactive.Make(m)
 		if e != api.OK || !same(p, plan(m)) {
 			t.Fatal(m, p, e)
@@ -184,12 +122,12 @@ func TestChoose(t *testing.T) {
 		m    api.Matrix
 		want int
 	}{
-		{of(3, "110", "011", "101"), 0},
-		{of(3, "010", "001"), 1},
-		{of(3, "011", "001"), 2},
-		{of(3, "110", "011", "010"), 1},
-		{of(2, "00", "01"), 1},
-		{of(1, "1"), 0},
+		{sample.Matrix(3, "110", "011", "101"), 0},
+		{sample.Matrix(3, "010", "001"), 1},
+		{sample.Matrix(3, "011", "001"), 2},
+		{sample.Matrix(3, "110", "011", "010"), 1},
+		{sample.Matrix(2, "00", "01"), 1},
+		{sample.Matrix(1, "1"), 0},
 	} {
 		if n, e := inactive.Choose(c.m); e != api.OK || n != c.want {
 			t.Error(i, n, e)
@@ -199,7 +137,7 @@ func TestChoose(t *testing.T) {
 	if n, e := inactive.Choose(last); e != api.OK || n != 63 {
 		t.Error(n, e)
 	}
-	for i, m := range []api.Matrix{of(0), of(3), of(3, "000", "000"), of(0, "", "")} {
+	for i, m := range []api.Matrix{sample.Matrix(0), sample.Matrix(3), sample.Matrix(3, "000", "000"), sample.Matrix(0, "", "")} {
 		if n, e := inactive.Choose(m); e != api.ErrNone || n != 0 {
 			t.Error(i, n, e)
 		}
@@ -207,7 +145,7 @@ func TestChoose(t *testing.T) {
 }
 
 func TestWrong(t *testing.T) {
-	for i, m := range bad() {
+	for i, m := range sample.WrongMatrices() {
 		if p, e := inactive.Make(m); e != api.ErrArg || !same(p, api.Plan{}) {
 			t.Error(i, p, e)
 		}
@@ -225,7 +163,7 @@ func TestWrong(t *testing.T) {
 }
 
 // m1 has several plans.
-func m1() api.Matrix { return of(4, "1100", "0110", "1010", "0000") }
+func m1() api.Matrix { return sample.Matrix(4, "1100", "0110", "1010", "0000") }
 
 func TestRightPlans(t *testing.T) {
 	for i, p := range []api.Plan{
@@ -240,7 +178,7 @@ func TestRightPlans(t *testing.T) {
 			t.Error(i)
 		}
 	}
-	if !inactive.Right(of(0), api.Plan{}) || !inactive.Right(of(5), api.Plan{}) || !inactive.Right(of(5), api.Plan{Inactive: []int{4}}) {
+	if !inactive.Right(sample.Matrix(0), api.Plan{}) || !inactive.Right(sample.Matrix(5), api.Plan{}) || !inactive.Right(sample.Matrix(5), api.Plan{Inactive: []int{4}}) {
 		t.Error("no rows")
 	}
 }

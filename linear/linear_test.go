@@ -11,17 +11,13 @@ import (
 	"downpour/linear"
 	"downpour/machine"
 	"downpour/receiver"
+	"downpour/sample"
 )
 
-// seed makes the tests' inputs the same at every run.
-type seed uint64
-
-func (s *seed) below(n int) int {
-	*s = *s*6364136223846793005 + 1442695040888963407
-	return int(uint64(*s) >> 33 % uint64(n))
-}
-
 var source = []string{"ab", "cd"}
+
+// seed makes the inputs of these tests.
+type seed struct{ sample.Seed }
 
 func open(id uint64) api.Call {
 	return api.Call{What: api.COpen, Object: id, K: 2, Size: 2, Cap: 9}
@@ -35,23 +31,23 @@ func add(id, n uint64) api.Call {
 func call(what int, id uint64) api.Call { return api.Call{What: what, Object: id} }
 
 func (s *seed) call() api.Call {
-	id := uint64(s.below(2))
-	return []api.Call{open(id), open(id), add(id, uint64(s.below(3))), add(id, uint64(s.below(3))), call(api.CProgress, id), call(api.CResult, id), call(api.CClose, id)}[s.below(7)]
+	id := uint64(s.Below(2))
+	return []api.Call{open(id), open(id), add(id, uint64(s.Below(3))), add(id, uint64(s.Below(3))), call(api.CProgress, id), call(api.CResult, id), call(api.CClose, id)}[s.Below(7)]
 }
 
 // clients are not more than so many calls, done till somewhere.
 func (s *seed) history(most int) []api.Event {
-	calls := make([][]api.Call, 1+s.below(4))
-	for range s.below(most + 1) {
-		i := s.below(len(calls))
+	calls := make([][]api.Call, 1+s.Below(4))
+	for range s.Below(most + 1) {
+		i := s.Below(len(calls))
 		if len(calls[i]) < 6 {
 			calls[i] = append(calls[i], s.call())
 		}
 	}
-	c, _ := machine.New(calls, 1+s.below(3))
-	picks := make([]int, s.below(5*most+10))
+	c, _ := machine.New(calls, 1+s.Below(3))
+	picks := make([]int, s.Below(5*most+10))
 	for i := range picks {
-		picks[i] = s.below(100)
+		picks[i] = s.Below(100)
 	}
 	c, _ = machine.Run(c, picks)
 	return c.History
@@ -122,7 +118,7 @@ func check(t *testing.T, h []api.Event) ([]int, api.Errno) {
 }
 
 func TestReplay(t *testing.T) {
-	s := seed(1)
+	s := seed{1}
 	for n := range 49 {
 		var calls []api.Call
 		for range n {
@@ -194,7 +190,7 @@ func TestOrderExamples(t *testing.T) {
 }
 
 func TestOrderOfClients(t *testing.T) {
-	s := seed(2)
+	s := seed{2}
 	for range 300 {
 		h := s.history(5)
 		got, e := check(t, h)
@@ -208,7 +204,7 @@ func TestOrderOfClients(t *testing.T) {
 }
 
 func TestOrderOfChangedReplies(t *testing.T) {
-	s := seed(3)
+	s := seed{3}
 	none := 0
 	for range 300 {
 		h := s.history(5)
@@ -216,10 +212,10 @@ func TestOrderOfChangedReplies(t *testing.T) {
 			continue
 		}
 		h = slices.Clone(h)
-		for range 1 + s.below(2) {
-			i := s.below(len(h))
-			h[i].Reply = h[s.below(len(h))].Reply
-			if s.below(4) == 0 {
+		for range 1 + s.Below(2) {
+			i := s.Below(len(h))
+			h[i].Reply = h[s.Below(len(h))].Reply
+			if s.Below(4) == 0 {
 				h[i].Reply.N++
 			}
 		}
@@ -233,7 +229,7 @@ func TestOrderOfChangedReplies(t *testing.T) {
 }
 
 func TestAccepts(t *testing.T) {
-	s := seed(4)
+	s := seed{4}
 	yes := 0
 	for range 300 {
 		h := s.history(4)
@@ -363,7 +359,7 @@ func TestEightAtOnce(t *testing.T) {
 	if got, e := linear.Order(h); e != api.ErrNone || len(got) != 0 {
 		t.Error(got, e)
 	}
-	s := seed(5)
+	s := seed{5}
 	for range 100 {
 		h := s.history(8)
 		got, e := linear.Order(h)
@@ -377,14 +373,14 @@ func TestEightAtOnce(t *testing.T) {
 }
 
 func TestOneAfterTheOther(t *testing.T) {
-	s := seed(6)
+	s := seed{6}
 	for range 50 {
 		var r api.Receiver
 		var h []api.Event
 		var at [4]int
 		var want []int
-		for i := range s.below(9) {
-			c, client := s.call(), s.below(4)
+		for i := range s.Below(9) {
+			c, client := s.call(), s.Below(4)
 			var reply api.Reply
 			r, reply = receiver.Do(r, c)
 			h = append(h, begin(client, at[client], c), end(client, at[client], c, reply))

@@ -9,17 +9,13 @@ import (
 	"downpour/encode"
 	"downpour/machine"
 	"downpour/receiver"
+	"downpour/sample"
 )
 
-// seed makes the tests' inputs the same at every run.
-type seed uint64
-
-func (s *seed) below(n int) int {
-	*s = *s*6364136223846793005 + 1442695040888963407
-	return int(uint64(*s) >> 33 % uint64(n))
-}
-
 var source = []string{"ab", "cd"}
+
+// seed makes the inputs of these tests.
+type seed struct{ sample.Seed }
 
 func open(id uint64) api.Call {
 	return api.Call{What: api.COpen, Object: id, K: 2, Size: 2, Cap: 9}
@@ -33,11 +29,11 @@ func add(id, n uint64) api.Call {
 func call(what int, id uint64) api.Call { return api.Call{What: what, Object: id} }
 
 func (s *seed) calls() [][]api.Call {
-	l := make([][]api.Call, s.below(5))
+	l := make([][]api.Call, s.Below(5))
 	for i := range l {
-		for range s.below(7) {
-			id := uint64(s.below(4))
-			l[i] = append(l[i], []api.Call{open(id), add(id, uint64(s.below(5))), call(api.CProgress, id), call(api.CResult, id), call(api.CClose, id), call(9, id)}[s.below(6)])
+		for range s.Below(7) {
+			id := uint64(s.Below(4))
+			l[i] = append(l[i], []api.Call{open(id), add(id, uint64(s.Below(5))), call(api.CProgress, id), call(api.CResult, id), call(api.CClose, id), call(9, id)}[s.Below(6)])
 		}
 	}
 	return l
@@ -46,7 +42,7 @@ func (s *seed) calls() [][]api.Call {
 func (s *seed) picks(many int) []int {
 	var l []int
 	for range many {
-		l = append(l, s.below(21)-10)
+		l = append(l, s.Below(21)-10)
 	}
 	return l
 }
@@ -225,9 +221,9 @@ func TestLocks(t *testing.T) {
 }
 
 func TestStepAgainstTheWords(t *testing.T) {
-	r := seed(1)
+	r := seed{1}
 	for range 150 {
-		c := made(t, 1+r.below(4), r.calls()...)
+		c := made(t, 1+r.Below(4), r.calls()...)
 		for range 130 {
 			kept := copyOf(c)
 			want := enabled(c)
@@ -262,16 +258,16 @@ func TestStepAgainstTheWords(t *testing.T) {
 				}
 				break
 			}
-			c, _ = machine.Step(c, want[r.below(len(want))])
+			c, _ = machine.Step(c, want[r.Below(len(want))])
 		}
 	}
 }
 
 func TestRun(t *testing.T) {
-	r := seed(2)
+	r := seed{2}
 	for range 150 {
-		c := made(t, 1+r.below(16), r.calls()...)
-		picks := r.picks(r.below(150))
+		c := made(t, 1+r.Below(16), r.calls()...)
+		picks := r.picks(r.Below(150))
 		if len(picks) > 3 {
 			picks[1], picks[2] = math.MinInt, math.MaxInt
 		}
@@ -375,10 +371,10 @@ func TestStrangeClients(t *testing.T) {
 }
 
 func TestOrderOfEvents(t *testing.T) {
-	r := seed(3)
+	r := seed{3}
 	for range 100 {
 		calls := r.calls()
-		c, _ := machine.Run(made(t, 1+r.below(3), calls...), r.picks(130))
+		c, _ := machine.Run(made(t, 1+r.Below(3), calls...), r.picks(130))
 		if ok, e := machine.Done(c); e != api.OK || !ok {
 			t.Fatal("not done", ok, e)
 		}

@@ -10,70 +10,12 @@ import (
 	"downpour/bitrow"
 	"downpour/block"
 	"downpour/matrix"
+	"downpour/sample"
 )
-
-// seed makes the tests' inputs the same at every run.
-type seed uint64
-
-func (s *seed) below(n int) int {
-	*s = *s*6364136223846793005 + 1442695040888963407
-	return int(uint64(*s) >> 33 % uint64(n))
-}
-
-func (s *seed) matrix(rows, n int) api.Matrix {
-	m := api.Matrix{N: n}
-	for range rows {
-		var places []int
-		for i := range n {
-			if s.below(2) == 1 {
-				places = append(places, i)
-			}
-		}
-		r, _ := bitrow.Of(n, places)
-		m.Rows = append(m.Rows, r)
-	}
-	return m
-}
-
-func (s *seed) blocks(many, n int) []string {
-	var l []string
-	for range many {
-		b := make([]byte, n)
-		for i := range b {
-			b[i] = byte(s.below(256))
-		}
-		l = append(l, string(b))
-	}
-	return l
-}
-
-// of is the matrix whose rows' bits are written out.
-func of(n int, rows ...string) api.Matrix {
-	m := api.Matrix{N: n}
-	for _, s := range rows {
-		var places []int
-		for i := range len(s) {
-			if s[i] == '1' {
-				places = append(places, i)
-			}
-		}
-		r, _ := bitrow.Of(len(s), places)
-		m.Rows = append(m.Rows, r)
-	}
-	return m
-}
 
 func bit(m api.Matrix, row, column int) int {
 	b, _ := bitrow.Get(m.Rows[row], column)
 	return b
-}
-
-func copyOf(m api.Matrix) api.Matrix {
-	m.Rows = slices.Clone(m.Rows)
-	for i := range m.Rows {
-		m.Rows[i].Words = slices.Clone(m.Rows[i].Words)
-	}
-	return m
 }
 
 func same(a, b api.Matrix) bool {
@@ -82,36 +24,16 @@ func same(a, b api.Matrix) bool {
 
 func isZero(m api.Matrix) bool { return m.N == 0 && len(m.Rows) == 0 }
 
-// bad may not be, each for one fault alone.
-func bad() []api.Matrix {
-	return []api.Matrix{
-		{N: -1},
-		{N: 65},
-		{N: 65, Rows: []api.Row{{N: 65, Words: []uint64{0, 0}}}},
-		{N: math.MinInt},
-		{N: math.MaxInt},
-		of(2, "11", "10", "1"),
-		of(2, "110"),
-		of(0, "1"),
-		{N: 0, Rows: make([]api.Row, 65)},
-		{N: 2, Rows: slices.Repeat(of(2, "10").Rows, 65)},
-		{N: 2, Rows: []api.Row{{N: 2}}},
-		{N: 2, Rows: []api.Row{{N: 2, Words: []uint64{4}}}},
-		{N: 2, Rows: []api.Row{{N: 2, Words: []uint64{0, 0}}}},
-		{N: 64, Rows: []api.Row{{N: 64, Words: []uint64{0}}, {N: 64}}},
-	}
-}
-
 var shapes = [][2]int{{0, 0}, {0, 3}, {3, 0}, {1, 1}, {2, 3}, {3, 2}, {5, 5}, {0, 64}, {64, 0}, {64, 64}, {63, 64}, {64, 1}, {1, 64}}
 
 func TestRight(t *testing.T) {
-	s := seed(1)
+	s := sample.Seed(1)
 	for _, p := range shapes {
-		if m := s.matrix(p[0], p[1]); !matrix.Right(m) {
+		if m := s.Matrix(p[0], p[1], 2); !matrix.Right(m) {
 			t.Error(p)
 		}
 	}
-	for i, m := range bad() {
+	for i, m := range sample.WrongMatrices() {
 		if matrix.Right(m) {
 			t.Error(i)
 		}
@@ -119,23 +41,23 @@ func TestRight(t *testing.T) {
 }
 
 func TestLike(t *testing.T) {
-	s := seed(2)
+	s := sample.Seed(2)
 	for _, p := range shapes {
-		m := s.matrix(p[0], p[1])
-		if !matrix.Like(m, copyOf(m)) {
+		m := s.Matrix(p[0], p[1], 2)
+		if !matrix.Like(m, sample.Copy(m)) {
 			t.Error(p)
 		}
 	}
 	if !matrix.Like(api.Matrix{N: 3}, api.Matrix{N: 3, Rows: []api.Row{}}) {
 		t.Error("an empty list counts as nil")
 	}
-	for i, m := range bad() {
-		if !matrix.Like(m, copyOf(m)) {
+	for i, m := range sample.WrongMatrices() {
+		if !matrix.Like(m, sample.Copy(m)) {
 			t.Error(i)
 		}
 	}
-	m := of(2, "10", "11")
-	for i, o := range []api.Matrix{of(3, "10", "11"), of(2, "10"), of(2, "10", "10"), of(2, "11", "10"), of(2, "10", "11", "00"), of(2, "10", "110"), {N: 2}, {}} {
+	m := sample.Matrix(2, "10", "11")
+	for i, o := range []api.Matrix{sample.Matrix(3, "10", "11"), sample.Matrix(2, "10"), sample.Matrix(2, "10", "10"), sample.Matrix(2, "11", "10"), sample.Matrix(2, "10", "11", "00"), sample.Matrix(2, "10", "110"), {N: 2}, {}} {
 		if matrix.Like(m, o) || matrix.Like(o, m) {
 			t.Error(i)
 		}
@@ -164,13 +86,13 @@ func TestOne(t *testing.T) {
 }
 
 func TestTurn(t *testing.T) {
-	if m, e := matrix.Turn(of(2, "10", "11", "01")); e != api.OK || !same(m, of(3, "110", "011")) {
+	if m, e := matrix.Turn(sample.Matrix(2, "10", "11", "01")); e != api.OK || !same(m, sample.Matrix(3, "110", "011")) {
 		t.Error(m, e)
 	}
-	s := seed(3)
+	s := sample.Seed(3)
 	for _, p := range shapes {
-		m := s.matrix(p[0], p[1])
-		kept := copyOf(m)
+		m := s.Matrix(p[0], p[1], 2)
+		kept := sample.Copy(m)
 		turned, e := matrix.Turn(m)
 		if e != api.OK || turned.N != p[0] || len(turned.Rows) != p[1] || !matrix.Right(turned) {
 			t.Fatal(p, turned, e)
@@ -186,7 +108,7 @@ func TestTurn(t *testing.T) {
 			t.Error(p)
 		}
 	}
-	for i, m := range bad() {
+	for i, m := range sample.WrongMatrices() {
 		if x, e := matrix.Turn(m); e != api.ErrArg || !isZero(x) {
 			t.Error(i, x, e)
 		}
@@ -194,13 +116,13 @@ func TestTurn(t *testing.T) {
 }
 
 func TestMul(t *testing.T) {
-	if m, e := matrix.Mul(of(2, "11", "01", "00"), of(3, "110", "011")); e != api.OK || !same(m, of(3, "101", "011", "000")) {
+	if m, e := matrix.Mul(sample.Matrix(2, "11", "01", "00"), sample.Matrix(3, "110", "011")); e != api.OK || !same(m, sample.Matrix(3, "101", "011", "000")) {
 		t.Error(m, e)
 	}
-	s := seed(4)
+	s := sample.Seed(4)
 	for _, p := range [][3]int{{0, 0, 0}, {2, 0, 3}, {0, 3, 2}, {3, 2, 0}, {1, 1, 1}, {4, 5, 6}, {6, 5, 4}, {64, 64, 64}, {64, 1, 64}, {1, 64, 1}} {
-		a, b := s.matrix(p[0], p[1]), s.matrix(p[1], p[2])
-		keptA, keptB := copyOf(a), copyOf(b)
+		a, b := s.Matrix(p[0], p[1], 2), s.Matrix(p[1], p[2], 2)
+		keptA, keptB := sample.Copy(a), sample.Copy(b)
 		m, e := matrix.Mul(a, b)
 		if e != api.OK || m.N != p[2] || len(m.Rows) != p[0] || !matrix.Right(m) {
 			t.Fatal(p, m, e)
@@ -223,15 +145,15 @@ func TestMul(t *testing.T) {
 }
 
 func TestMulWrong(t *testing.T) {
-	good := of(2, "11")
-	for i, m := range bad() {
+	good := sample.Matrix(2, "11")
+	for i, m := range sample.WrongMatrices() {
 		for _, p := range [][2]api.Matrix{{m, good}, {good, m}, {m, m}} {
 			if x, e := matrix.Mul(p[0], p[1]); e != api.ErrArg || !isZero(x) {
 				t.Error(i, x, e)
 			}
 		}
 	}
-	for _, p := range [][2]api.Matrix{{good, good}, {of(1, "1"), of(1)}, {of(0), of(1, "1")}, {of(2), of(2, "11", "00", "01")}} {
+	for _, p := range [][2]api.Matrix{{good, good}, {sample.Matrix(1, "1"), sample.Matrix(1)}, {sample.Matrix(0), sample.Matrix(1, "1")}, {sample.Matrix(2), sample.Matrix(2, "11", "00", "01")}} {
 		if x, e := matrix.Mul(p[0], p[1]); e != api.ErrSize || !isZero(x) {
 			t.Error(p, x, e)
 		}
@@ -239,11 +161,11 @@ func TestMulWrong(t *testing.T) {
 }
 
 func TestApply(t *testing.T) {
-	s := seed(5)
+	s := sample.Seed(5)
 	for _, p := range shapes {
 		for _, n := range []int{0, 1, 64} {
-			m, l := s.matrix(p[0], p[1]), s.blocks(p[1], n)
-			kept, blocks := copyOf(m), slices.Clone(l)
+			m, l := s.Matrix(p[0], p[1], 2), s.Blocks(p[1], n)
+			kept, blocks := sample.Copy(m), slices.Clone(l)
 			got, e := matrix.Apply(m, n, l)
 			if e != api.OK || len(got) != p[0] {
 				t.Fatal(p, n, got, e)
@@ -258,7 +180,7 @@ func TestApply(t *testing.T) {
 			}
 		}
 	}
-	if l, e := matrix.Apply(of(2, "11", "00", "01"), 1, []string{"a", "b"}); e != api.OK || !slices.Equal(l, []string{"\x03", "\x00", "b"}) {
+	if l, e := matrix.Apply(sample.Matrix(2, "11", "00", "01"), 1, []string{"a", "b"}); e != api.OK || !slices.Equal(l, []string{"\x03", "\x00", "b"}) {
 		t.Errorf("%q %d", l, e)
 	}
 }
@@ -278,19 +200,19 @@ func TestApplyWrong(t *testing.T) {
 		{math.MaxInt, nil},
 	}
 	for i, w := range sizes {
-		if x, e := matrix.Apply(of(2, "11"), w.n, w.l); e != api.ErrSize || len(x) != 0 {
+		if x, e := matrix.Apply(sample.Matrix(2, "11"), w.n, w.l); e != api.ErrSize || len(x) != 0 {
 			t.Error(i, x, e)
 		}
-		if x, e := matrix.Apply(of(2), w.n, w.l); e != api.ErrSize || len(x) != 0 {
+		if x, e := matrix.Apply(sample.Matrix(2), w.n, w.l); e != api.ErrSize || len(x) != 0 {
 			t.Error(i, x, e)
 		}
-		for j, m := range bad() {
+		for j, m := range sample.WrongMatrices() {
 			if x, e := matrix.Apply(m, w.n, w.l); e != api.ErrArg || len(x) != 0 {
 				t.Error(i, j, x, e)
 			}
 		}
 	}
-	for i, m := range bad() {
+	for i, m := range sample.WrongMatrices() {
 		if x, e := matrix.Apply(m, 1, []string{"a", "b"}); e != api.ErrArg || len(x) != 0 {
 			t.Error(i, x, e)
 		}
@@ -298,10 +220,10 @@ func TestApplyWrong(t *testing.T) {
 }
 
 func TestLaws(t *testing.T) {
-	s := seed(6)
+	s := sample.Seed(6)
 	for range 30 {
-		p, q, r, n := s.below(20), s.below(20), s.below(20), s.below(65)
-		a, b, l := s.matrix(p, q), s.matrix(q, r), s.blocks(r, n)
+		p, q, r, n := s.Below(20), s.Below(20), s.Below(20), s.Below(65)
+		a, b, l := s.Matrix(p, q, 2), s.Matrix(q, r, 2), s.Blocks(r, n)
 		ab, _ := matrix.Mul(a, b)
 		turned, _ := matrix.Turn(ab)
 		ta, _ := matrix.Turn(a)

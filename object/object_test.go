@@ -9,28 +9,9 @@ import (
 	"downpour/encode"
 	"downpour/equations"
 	"downpour/object"
+	"downpour/sample"
 	"downpour/solve"
 )
-
-// seed makes the tests' inputs the same at every run.
-type seed uint64
-
-func (s *seed) below(n int) int {
-	*s = *s*6364136223846793005 + 1442695040888963407
-	return int(uint64(*s) >> 33 % uint64(n))
-}
-
-func (s *seed) blocks(many, n int) []string {
-	var l []string
-	for range many {
-		b := make([]byte, n)
-		for i := range b {
-			b[i] = byte(s.below(256))
-		}
-		l = append(l, string(b))
-	}
-	return l
-}
 
 func open(id uint64, k, size, cap int) api.Call {
 	return api.Call{What: api.COpen, Object: id, K: k, Size: size, Cap: cap}
@@ -138,10 +119,10 @@ func TestLike(t *testing.T) {
 }
 
 func TestAdd(t *testing.T) {
-	s := seed(1)
+	s := sample.Seed(1)
 	for range 20 {
-		k, n := 1+s.below(20), s.below(10)
-		source := s.blocks(k, n)
+		k, n := 1+s.Below(20), s.Below(10)
+		source := s.Blocks(k, n)
 		o, _ := object.Open(open(3, k, n, 64))
 		for id := range uint64(64) {
 			x, _ := encode.Make(source, id*17)
@@ -186,8 +167,8 @@ func TestAddWrong(t *testing.T) {
 }
 
 func TestProgressAndResult(t *testing.T) {
-	s := seed(2)
-	source := s.blocks(10, 5)
+	s := sample.Seed(2)
+	source := s.Blocks(10, 5)
 	ready := false
 	for many := range 40 {
 		o := filled(source, many, 64)
@@ -271,14 +252,14 @@ func TestWrong(t *testing.T) {
 }
 
 func TestProgressNeverFalls(t *testing.T) {
-	s := seed(3)
+	s := sample.Seed(3)
 	for range 30 {
-		k := 1 + s.below(12)
-		source := s.blocks(k, 2)
-		o, _ := object.Open(open(1, k, 2, 1+s.below(64)))
+		k := 1 + s.Below(12)
+		source := s.Blocks(k, 2)
+		o, _ := object.Open(open(1, k, 2, 1+s.Below(64)))
 		last, done := 0, false
 		for range 100 {
-			x, _ := encode.Make(source, uint64(s.below(40)))
+			x, _ := encode.Make(source, uint64(s.Below(40)))
 			var r api.Reply
 			o, _ = object.Do(o, add(x))
 			o, r = object.Do(o, call(api.CProgress))

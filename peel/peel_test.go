@@ -13,54 +13,10 @@ import (
 	"downpour/equations"
 	"downpour/neighbours"
 	"downpour/peel"
+	"downpour/sample"
 )
 
-// seed makes the tests' inputs the same at every run.
-type seed uint64
-
-func (s *seed) below(n int) int {
-	*s = *s*6364136223846793005 + 1442695040888963407
-	return int(uint64(*s) >> 33 % uint64(n))
-}
-
-func (s *seed) block(n int) string {
-	b := make([]byte, n)
-	for i := range b {
-		b[i] = byte(s.below(256))
-	}
-	return string(b)
-}
-
-func (s *seed) blocks(many, n int) []string {
-	var l []string
-	for range many {
-		l = append(l, s.block(n))
-	}
-	return l
-}
-
-// row has about one bit 1 of so many.
-func (s *seed) row(k, of int) api.Row {
-	var places []int
-	for i := range k {
-		if s.below(of) == 0 {
-			places = append(places, i)
-		}
-	}
-	r, _ := bitrow.Of(k, places)
-	return r
-}
-
-func eq(bits, sum string) api.Equation {
-	var places []int
-	for i := range len(bits) {
-		if bits[i] == '1' {
-			places = append(places, i)
-		}
-	}
-	r, _ := bitrow.Of(len(bits), places)
-	return api.Equation{Row: r, Sum: sum}
-}
+func eq(bits, sum string) api.Equation { return api.Equation{Row: sample.Row(bits), Sum: sum} }
 
 func sameEquation(a, b api.Equation) bool { return bitrow.Like(a.Row, b.Row) && a.Sum == b.Sum }
 
@@ -198,32 +154,32 @@ func TestStep(t *testing.T) {
 }
 
 func TestPeelAnyEquations(t *testing.T) {
-	s := seed(1)
+	s := sample.Seed(1)
 	for range 500 {
-		k, n := 1+s.below(8), s.below(3)
+		k, n := 1+s.Below(8), s.Below(3)
 		var rows []api.Equation
-		for range s.below(12) {
-			rows = append(rows, api.Equation{Row: s.row(k, 1+s.below(6)), Sum: s.block(n)})
+		for range s.Below(12) {
+			rows = append(rows, api.Equation{Row: s.Row(k, 1+s.Below(6)), Sum: s.Text(n)})
 		}
 		check(t, k, rows)
 	}
 	for _, p := range [][3]int{{64, 64, 64}, {64, 64, 0}, {1, 64, 64}, {64, 1, 5}} {
 		var rows []api.Equation
 		for range p[1] {
-			rows = append(rows, api.Equation{Row: s.row(p[0], 40), Sum: s.block(p[2])})
+			rows = append(rows, api.Equation{Row: s.Row(p[0], 40), Sum: s.Text(p[2])})
 		}
 		check(t, p[0], rows)
 	}
 }
 
 func TestPeelOfBlocks(t *testing.T) {
-	s := seed(2)
+	s := sample.Seed(2)
 	for range 100 {
-		k, n := 1+s.below(30), s.below(20)
-		source := s.blocks(k, n)
+		k, n := 1+s.Below(30), s.Below(20)
+		source := s.Blocks(k, n)
 		var rows []api.Equation
-		for range s.below(60) {
-			r := s.row(k, 2+s.below(2*k))
+		for range s.Below(60) {
+			r := s.Row(k, 2+s.Below(2*k))
 			sum, _ := block.Pick(n, source, r)
 			rows = append(rows, api.Equation{Row: r, Sum: sum})
 		}
@@ -247,9 +203,9 @@ func TestPeelOfBlocks(t *testing.T) {
 }
 
 func TestOf(t *testing.T) {
-	s := seed(3)
+	s := sample.Seed(3)
 	for _, k := range []int{1, 5, 64} {
-		source := s.blocks(k, 3)
+		source := s.Blocks(k, 3)
 		store, _ := equations.New(k, 3, 64)
 		if l, e := peel.Of(store); e != api.OK || len(l) != 0 {
 			t.Error(l, e)

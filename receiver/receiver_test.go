@@ -11,15 +11,8 @@ import (
 	"downpour/equations"
 	"downpour/object"
 	"downpour/receiver"
+	"downpour/sample"
 )
-
-// seed makes the tests' inputs the same at every run.
-type seed uint64
-
-func (s *seed) below(n int) int {
-	*s = *s*6364136223846793005 + 1442695040888963407
-	return int(uint64(*s) >> 33 % uint64(n))
-}
 
 var source = []string{"ab", "cd", "ef"}
 
@@ -334,17 +327,17 @@ func TestTakeChanged(t *testing.T) {
 }
 
 func TestApart(t *testing.T) {
-	s := seed(1)
+	s := sample.Seed(1)
 	var r api.Receiver
 	for range 3000 {
-		id := uint64(s.below(10))
+		id := uint64(s.Below(10))
 		var next api.Receiver
-		if s.below(3) == 0 {
-			next, _ = receiver.Take(r, put(id, 3, 2, symbol(uint64(s.below(20)))))
+		if s.Below(3) == 0 {
+			next, _ = receiver.Take(r, put(id, 3, 2, symbol(uint64(s.Below(20)))))
 		} else {
 			c := open(id)
-			c.What, c.Symbol = s.below(5), symbol(uint64(s.below(20)))
-			if c.What == api.CClose && s.below(10) > 0 {
+			c.What, c.Symbol = s.Below(5), symbol(uint64(s.Below(20)))
+			if c.What == api.CClose && s.Below(10) > 0 {
 				c.What = api.CResult
 			}
 			next, _ = receiver.Do(r, c)
@@ -359,7 +352,7 @@ func TestApart(t *testing.T) {
 			t.Fatal("another object changed", id)
 		}
 		r = next
-		if len(r.Objects) == 8 && s.below(200) == 0 {
+		if len(r.Objects) == 8 && s.Below(200) == 0 {
 			r = api.Receiver{}
 		}
 	}

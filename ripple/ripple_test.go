@@ -7,17 +7,13 @@ import (
 
 	"downpour/api"
 	"downpour/ripple"
+	"downpour/sample"
 )
 
-// seed makes the tests' inputs the same at every run.
-type seed uint64
+// seed makes the inputs of these tests.
+type seed struct{ sample.Seed }
 
-func (s *seed) below(n int) int {
-	*s = *s*6364136223846793005 + 1442695040888963407
-	return int(uint64(*s) >> 33 % uint64(n))
-}
-
-func (s *seed) drop() api.Drop { return drop(s.below(5)-1, uint64(s.below(6))) }
+func (s *seed) drop() api.Drop { return drop(s.Below(5)-1, uint64(s.Below(6))) }
 
 func drop(degree int, id uint64) api.Drop { return api.Drop{Degree: degree, Id: id} }
 
@@ -81,7 +77,7 @@ func TestBefore(t *testing.T) {
 }
 
 func TestSorted(t *testing.T) {
-	s := seed(1)
+	s := seed{1}
 	for n := range 60 {
 		var l []api.Drop
 		for range n {
@@ -115,11 +111,11 @@ func TestRunExamples(t *testing.T) {
 }
 
 func TestRun(t *testing.T) {
-	s := seed(2)
+	s := seed{2}
 	for n := range 300 {
 		var l []api.Deed
 		for range n {
-			l = append(l, api.Deed{Take: s.below(5) < 1+n%4, Drop: s.drop()})
+			l = append(l, api.Deed{Take: s.Below(5) < 1+n%4, Drop: s.drop()})
 		}
 		kept := slices.Clone(l)
 		taken, left, vain := ripple.Run(l)
@@ -134,11 +130,11 @@ func TestRun(t *testing.T) {
 }
 
 func TestOnce(t *testing.T) {
-	s := seed(3)
+	s := seed{3}
 	var l []api.Deed
 	var pushed []api.Drop
 	for range 2000 {
-		d := api.Deed{Take: s.below(2) == 1, Drop: s.drop()}
+		d := api.Deed{Take: s.Below(2) == 1, Drop: s.drop()}
 		l = append(l, d)
 		if !d.Take {
 			pushed = append(pushed, d.Drop)
@@ -151,7 +147,7 @@ func TestOnce(t *testing.T) {
 }
 
 func TestFirst(t *testing.T) {
-	s := seed(4)
+	s := seed{4}
 	for n := range 30 {
 		var l []api.Drop
 		for range n {

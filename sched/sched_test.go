@@ -6,16 +6,12 @@ import (
 	"testing"
 
 	"downpour/api"
+	"downpour/sample"
 	"downpour/sched"
 )
 
-// seed makes the tests' inputs the same at every run.
-type seed uint64
-
-func (s *seed) below(n int) int {
-	*s = *s*6364136223846793005 + 1442695040888963407
-	return int(uint64(*s) >> 33 % uint64(n))
-}
+// seed makes the inputs of these tests.
+type seed struct{ sample.Seed }
 
 func in(op, a, n int) api.Instr { return api.Instr{Op: op, A: a, N: n} }
 
@@ -295,8 +291,8 @@ func run(s api.System, picks []int) (api.System, []int) {
 func (r *seed) threads(many, steps int) [][]api.Instr {
 	l := make([][]api.Instr, many)
 	for i := range l {
-		for range r.below(steps + 1) {
-			l[i] = append(l[i], in(r.below(5), r.below(4), r.below(2001)-1000))
+		for range r.Below(steps + 1) {
+			l[i] = append(l[i], in(r.Below(5), r.Below(4), r.Below(2001)-1000))
 		}
 	}
 	return l
@@ -342,9 +338,9 @@ func TestStepExamples(t *testing.T) {
 }
 
 func TestStepAgainstTheWords(t *testing.T) {
-	r := seed(1)
+	r := seed{1}
 	for range 200 {
-		s := made(t, r.threads(1+r.below(8), 16)...)
+		s := made(t, r.threads(1+r.Below(8), 16)...)
 		for range 100 {
 			kept := copyOf(s)
 			want := enabled(s)
@@ -376,18 +372,18 @@ func TestStepAgainstTheWords(t *testing.T) {
 			if len(want) == 0 {
 				break
 			}
-			s, _ = sched.Step(s, want[r.below(len(want))])
+			s, _ = sched.Step(s, want[r.Below(len(want))])
 		}
 	}
 }
 
 func TestRun(t *testing.T) {
-	r := seed(2)
+	r := seed{2}
 	for range 300 {
-		s := made(t, r.threads(r.below(9), 16)...)
+		s := made(t, r.threads(r.Below(9), 16)...)
 		var picks []int
-		for range r.below(150) {
-			picks = append(picks, r.below(21)-10)
+		for range r.Below(150) {
+			picks = append(picks, r.Below(21)-10)
 		}
 		if len(picks) > 3 {
 			picks[1], picks[2] = math.MinInt, math.MaxInt
@@ -443,13 +439,13 @@ func TestStepKeepsRoom(t *testing.T) {
 }
 
 func TestRisingOrderNeverStandsStill(t *testing.T) {
-	r := seed(3)
+	r := seed{3}
 	for range 100 {
-		threads := make([][]api.Instr, 1+r.below(8))
+		threads := make([][]api.Instr, 1+r.Below(8))
 		for i := range threads {
 			for a := range 4 {
-				if r.below(2) == 1 {
-					threads[i] = append(threads[i], lock(a), add(r.below(4), r.below(100)))
+				if r.Below(2) == 1 {
+					threads[i] = append(threads[i], lock(a), add(r.Below(4), r.Below(100)))
 				}
 			}
 			for a := range 4 {
@@ -462,7 +458,7 @@ func TestRisingOrderNeverStandsStill(t *testing.T) {
 		for range 5 {
 			picks := make([]int, 8*16)
 			for i := range picks {
-				picks[i] = r.below(100)
+				picks[i] = r.Below(100)
 			}
 			x, _, _ := sched.Run(made(t, threads...), picks)
 			if ok, e := sched.Done(x); e != api.OK || !ok {

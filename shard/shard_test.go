@@ -7,16 +7,9 @@ import (
 	"testing"
 
 	"downpour/api"
+	"downpour/sample"
 	"downpour/shard"
 )
-
-// seed makes the tests' inputs the same at every run.
-type seed uint64
-
-func (s *seed) below(n int) int {
-	*s = *s*6364136223846793005 + 1442695040888963407
-	return int(uint64(*s) >> 33 % uint64(n))
-}
 
 func sym(id uint64, data string) api.Symbol { return api.Symbol{Id: id, Data: data} }
 
@@ -293,12 +286,12 @@ func TestWrong(t *testing.T) {
 }
 
 func TestStripesDoNotMatter(t *testing.T) {
-	r := seed(1)
+	r := sample.Seed(1)
 	for range 30 {
-		cap := 1 + r.below(64)
+		cap := 1 + r.Below(64)
 		var come []api.Symbol
 		for range 40 {
-			come = append(come, sym(uint64(r.below(60)), strings.Repeat("x", r.below(8)/7+1)))
+			come = append(come, sym(uint64(r.Below(60)), strings.Repeat("x", r.Below(8)/7+1)))
 		}
 		one, _ := shard.New(1, 1, cap)
 		var told [17][]api.Errno

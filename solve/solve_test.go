@@ -17,68 +17,9 @@ import (
 	"downpour/neighbours"
 	"downpour/peel"
 	"downpour/reduce"
+	"downpour/sample"
 	"downpour/solve"
 )
-
-// seed makes the tests' inputs the same at every run.
-type seed uint64
-
-func (s *seed) below(n int) int {
-	*s = *s*6364136223846793005 + 1442695040888963407
-	return int(uint64(*s) >> 33 % uint64(n))
-}
-
-// matrix has about one bit 1 of so many.
-func (s *seed) matrix(rows, n, of int) api.Matrix {
-	m := api.Matrix{N: n}
-	for range rows {
-		var places []int
-		for i := range n {
-			if s.below(of) == 0 {
-				places = append(places, i)
-			}
-		}
-		r, _ := bitrow.Of(n, places)
-		m.Rows = append(m.Rows, r)
-	}
-	return m
-}
-
-func (s *seed) blocks(many, n int) []string {
-	var l []string
-	for range many {
-		b := make([]byte, n)
-		for i := range b {
-			b[i] = byte(s.below(256))
-		}
-		l = append(l, string(b))
-	}
-	return l
-}
-
-// of is the matrix whose rows' bits are written out.
-func of(n int, rows ...string) api.Matrix {
-	m := api.Matrix{N: n}
-	for _, s := range rows {
-		var places []int
-		for i := range len(s) {
-			if s[i] == '1' {
-				places = append(places, i)
-			}
-		}
-		r, _ := bitrow.Of(len(s), places)
-		m.Rows = append(m.Rows, r)
-	}
-	return m
-}
-
-func copyOf(m api.Matrix) api.Matrix {
-	m.Rows = slices.Clone(m.Rows)
-	for i := range m.Rows {
-		m.Rows[i].Words = slices.Clone(m.Rows[i].Words)
-	}
-	return m
-}
 
 // store has the symbols of these ids, of blocks.
 func store(t *testing.T, source []string, ids ...uint64) api.Store {
@@ -122,40 +63,40 @@ func core(m api.Matrix, l []string) ([]int, api.Matrix, []string) {
 }
 
 func TestCoreExamples(t *testing.T) {
-	columns, m, l, e := solve.Core(of(3, "110", "011", "101"), 1, []string{"a", "b", "d"})
-	if e != api.OK || !slices.Equal(columns, []int{0}) || !matrix.Like(m, of(1, "0")) || !slices.Equal(l, []string{"g"}) {
+	columns, m, l, e := solve.Core(sample.Matrix(3, "110", "011", "101"), 1, []string{"a", "b", "d"})
+	if e != api.OK || !slices.Equal(columns, []int{0}) || !matrix.Like(m, sample.Matrix(1, "0")) || !slices.Equal(l, []string{"g"}) {
 		t.Errorf("%v %v %q %d", columns, m, l, e)
 	}
-	columns, m, l, e = solve.Core(of(3, "111", "110", "011", "101"), 1, []string{"a", "b", "d", "h"})
-	if e != api.OK || !slices.Equal(columns, []int{0}) || !matrix.Like(m, of(1, "1", "1")) || !slices.Equal(l, []string{"\x05", "k"}) {
+	columns, m, l, e = solve.Core(sample.Matrix(3, "111", "110", "011", "101"), 1, []string{"a", "b", "d", "h"})
+	if e != api.OK || !slices.Equal(columns, []int{0}) || !matrix.Like(m, sample.Matrix(1, "1", "1")) || !slices.Equal(l, []string{"\x05", "k"}) {
 		t.Errorf("%v %v %q %d", columns, m, l, e)
 	}
-	columns, m, l, e = solve.Core(of(4, "0011", "0011", "1100"), 0, []string{"", "", ""})
-	if e != api.OK || !slices.Equal(columns, []int{0, 2}) || !matrix.Like(m, of(2, "00")) || !slices.Equal(l, []string{""}) {
+	columns, m, l, e = solve.Core(sample.Matrix(4, "0011", "0011", "1100"), 0, []string{"", "", ""})
+	if e != api.OK || !slices.Equal(columns, []int{0, 2}) || !matrix.Like(m, sample.Matrix(2, "00")) || !slices.Equal(l, []string{""}) {
 		t.Errorf("%v %v %q %d", columns, m, l, e)
 	}
-	columns, m, l, e = solve.Core(of(0, ""), 1, []string{"a"})
-	if e != api.OK || len(columns) != 0 || !matrix.Like(m, of(0, "")) || !slices.Equal(l, []string{"a"}) {
+	columns, m, l, e = solve.Core(sample.Matrix(0, ""), 1, []string{"a"})
+	if e != api.OK || len(columns) != 0 || !matrix.Like(m, sample.Matrix(0, "")) || !slices.Equal(l, []string{"a"}) {
 		t.Errorf("%v %v %q %d", columns, m, l, e)
 	}
-	columns, m, l, e = solve.Core(of(5), 3, nil)
+	columns, m, l, e = solve.Core(sample.Matrix(5), 3, nil)
 	if e != api.OK || len(columns) != 0 || m.N != 0 || len(m.Rows) != 0 || len(l) != 0 {
 		t.Errorf("%v %v %q %d", columns, m, l, e)
 	}
 }
 
 func TestCore(t *testing.T) {
-	s := seed(1)
+	s := sample.Seed(1)
 	for i := range 300 {
-		rows, n, size := s.below(40), s.below(30), s.below(4)
+		rows, n, size := s.Below(40), s.Below(30), s.Below(4)
 		if i%50 == 0 {
 			rows, n, size = 64, 64, 64
 		}
-		m, l := s.matrix(rows, n, 1+s.below(n+2)), s.blocks(rows, size)
+		m, l := s.Matrix(rows, n, 1+s.Below(n+2)), s.Blocks(rows, size)
 		if i%2 == 0 {
-			l, _ = matrix.Apply(m, size, s.blocks(n, size))
+			l, _ = matrix.Apply(m, size, s.Blocks(n, size))
 		}
-		kept, blocks := copyOf(m), slices.Clone(l)
+		kept, blocks := sample.Copy(m), slices.Clone(l)
 		columns, x, sums, e := solve.Core(m, size, l)
 		c1, x1, s1 := core(m, l)
 		if e != api.OK || !slices.Equal(columns, c1) || !matrix.Like(x, x1) || !slices.Equal(sums, s1) {
@@ -177,7 +118,7 @@ func TestCore(t *testing.T) {
 }
 
 func TestCoreWrong(t *testing.T) {
-	good := of(2, "11", "01")
+	good := sample.Matrix(2, "11", "01")
 	for i, c := range []struct {
 		m    api.Matrix
 		n    int
@@ -186,7 +127,7 @@ func TestCoreWrong(t *testing.T) {
 	}{
 		{api.Matrix{N: 65}, 1, nil, api.ErrArg},
 		{api.Matrix{N: -1}, -1, []string{"a"}, api.ErrArg},
-		{of(2, "11", "1"), 1, []string{"a"}, api.ErrArg},
+		{sample.Matrix(2, "11", "1"), 1, []string{"a"}, api.ErrArg},
 		{api.Matrix{N: 2, Rows: []api.Row{{N: 2}}}, 1, []string{"a"}, api.ErrArg},
 		{good, -1, []string{"a", "b"}, api.ErrSize},
 		{good, 65, []string{strings.Repeat("a", 65), strings.Repeat("a", 65)}, api.ErrSize},
@@ -204,13 +145,13 @@ func TestCoreWrong(t *testing.T) {
 }
 
 func TestSolve(t *testing.T) {
-	s := seed(2)
+	s := sample.Seed(2)
 	for range 60 {
-		k, n := 1+s.below(30), s.below(65)
-		source := s.blocks(k, n)
+		k, n := 1+s.Below(30), s.Below(65)
+		source := s.Blocks(k, n)
 		var ids []uint64
-		for range s.below(64) {
-			ids = append(ids, uint64(len(ids)*1000+s.below(1000)))
+		for range s.Below(64) {
+			ids = append(ids, uint64(len(ids)*1000+s.Below(1000)))
 		}
 		st := store(t, source, ids...)
 		rows, _ := neighbours.Rows(k, ids)
@@ -230,15 +171,15 @@ func TestSolve(t *testing.T) {
 }
 
 func TestTenBlocksInAnyOrder(t *testing.T) {
-	s := seed(3)
-	source := s.blocks(10, 20)
+	s := sample.Seed(3)
+	source := s.Blocks(10, 20)
 	var ids []uint64
 	for i := range uint64(64) {
 		ids = append(ids, i)
 	}
 	for range 5 {
 		for i := range ids {
-			j := s.below(64)
+			j := s.Below(64)
 			ids[i], ids[j] = ids[j], ids[i]
 		}
 		if l, e := solve.Solve(store(t, source, ids...)); e != api.OK || !slices.Equal(l, source) {
@@ -255,8 +196,8 @@ func TestSolveInconsistent(t *testing.T) {
 	if p, e := solve.Progress(s); e != api.OK || p != 1 {
 		t.Error(p, e)
 	}
-	r := seed(4)
-	source := r.blocks(20, 3)
+	r := sample.Seed(4)
+	source := r.Blocks(20, 3)
 	var ids []uint64
 	for i := range uint64(40) {
 		ids = append(ids, i)
@@ -272,14 +213,14 @@ func TestSolveInconsistent(t *testing.T) {
 }
 
 func TestCost(t *testing.T) {
-	s := seed(5)
+	s := sample.Seed(5)
 	sum := 0
 	for range 200 {
-		k := 1 + s.below(40)
-		source := s.blocks(k, 2)
+		k := 1 + s.Below(40)
+		source := s.Blocks(k, 2)
 		var ids []uint64
-		for i := range s.below(50) {
-			ids = append(ids, uint64(i*1000+s.below(1000)))
+		for i := range s.Below(50) {
+			ids = append(ids, uint64(i*1000+s.Below(1000)))
 		}
 		st := store(t, source, ids...)
 		rows, _ := peel.Of(st)
